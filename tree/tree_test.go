@@ -518,7 +518,7 @@ func (p *pair) do(x change) {
 	}
 }
 
-// All rows of six calls that go well of those that may come next: on all trees that so many calls make.
+// All rows of up to six calls that each go well, from an empty tree on.
 func TestEachSmallTree(t *testing.T) {
 	rows := [][]change{nil}
 	for len(rows) > 0 {
