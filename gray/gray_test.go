@@ -432,8 +432,10 @@ func TestAllShortRows(t *testing.T) {
 	}
 	for row := range rows {
 		l, s := New(), &slow{}
-		for left := row; left > 0; left /= calls {
+		left := row
+		for range length {
 			call(t, left%calls, l, s)
+			left /= calls
 		}
 		holdAll(t, l, s, []int{0, 1})
 		empty(t, l, s)
